@@ -1,0 +1,1 @@
+"""Meters and accounts of postage."""
