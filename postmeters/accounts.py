@@ -2,7 +2,7 @@
 
 from postmeters.journal import PAID_IN, VOUCHER_USED
 from postmeters.replies import ALREADY_SO, NOT_READ, NOT_THERE, OUT_OF_RANGE, TOO_MUCH, with_rows
-from postmeters.texts import read_voucher, voucher_text
+from postmeters.texts import LONGEST_TEXT, read_voucher, voucher_text
 from postmeters.world import MOST_ACCOUNTS, Voucher
 
 LAST_DAY = 100000
@@ -69,3 +69,11 @@ def redeem(world, account, text):
     voucher.used = True
     world.enter_today(account, VOUCHER_USED, voucher.value, number)
     return [voucher.value]
+
+
+def check_voucher(text):
+    """Whether the text is read as a voucher's, whatever vouchers there are."""
+    if len(text) > LONGEST_TEXT:
+        return [OUT_OF_RANGE]
+    number = read_voucher(text)
+    return [0] if number is None else with_rows(1, [[number]])

@@ -1,8 +1,12 @@
 """The interface: a list of calls on one new world, and what they answer."""
 
-from postmeters.accounts import deposit, move_day, new_account, new_voucher, redeem
-from postmeters.lines import ask, deliver_to_house, deliver_to_meter, lose
+from postmeters.accounts import check_voucher, deposit, move_day, new_account, new_voucher, redeem
+from postmeters.imprints import judge, scan, spoil, write_text
+from postmeters.lines import ask, deliver_to_house, deliver_to_meter, double, garble, lose
 from postmeters.meters import boot, new_meter, print_imprint, stop_meter, withdraw
+from postmeters.reports import (
+    tell_balance, tell_banks, tell_counts, tell_lines, tell_meter, tell_registers, tell_statement,
+)
 from postmeters.world import World
 
 BEGIN = 0
@@ -19,15 +23,31 @@ BOOT = 10
 ASK = 11
 TO_HOUSE = 12
 TO_METER = 13
+LOSE = 14
+DOUBLE = 15
+GARBLE = 16
+SCAN = 17
+SPOIL = 18
+JUDGE = 19
+REGISTERS = 20
+BANKS = 21
+TOLD = 22
+BALANCE = 23
+STATEMENT = 24
+LINES = 25
+COUNTS = 26
+TEXT = 27
 
 # How many whole numbers stand behind each call's number, by that number.
 WHOLE_NUMBERS = {
     0: 0, 1: 1, 2: 0, 3: 2, 4: 2, 5: 1, 6: 2, 7: 1,
-    8: 1, 9: 3, 10: 1, 11: 2, 12: 1, 13: 2, 14: 2,
+    8: 1, 9: 3, 10: 1, 11: 2, 12: 1, 13: 2, 14: 2, 15: 2,
+    16: 3, 17: 0, 18: 1, 19: 0, 20: 1, 21: 1, 22: 1, 23: 1,
+    24: 2, 25: 0, 26: 0, 27: 4, 28: 0,
 }
 
-# The calls that have a text behind their whole numbers: redeem.
-CALLS_WITH_TEXT = (5,)
+# The calls that have a text behind their whole numbers: redeem, scan, spoil, judge, check.
+CALLS_WITH_TEXT = (5, 17, 18, 19, 28)
 
 
 def split_calls(calls):
@@ -78,7 +98,41 @@ def answer_on_lines(world, call, numbers):
         return deliver_to_house(world, numbers[0])
     if call == TO_METER:
         return deliver_to_meter(world, numbers[0], numbers[1])
-    return lose(world, numbers[0], numbers[1])
+    if call == LOSE:
+        return lose(world, numbers[0], numbers[1])
+    if call == DOUBLE:
+        return double(world, numbers[0], numbers[1])
+    return garble(world, numbers[0], numbers[1], numbers[2])
+
+
+def answer_on_imprints(world, call, numbers, text):
+    if call == SCAN:
+        return scan(world, text)
+    if call == SPOIL:
+        return spoil(world, numbers[0], text)
+    return judge(world, text)
+
+
+def answer_with_report(world, call, numbers):
+    if call == REGISTERS:
+        return tell_registers(world, numbers[0])
+    if call == BANKS:
+        return tell_banks(world, numbers[0])
+    if call == TOLD:
+        return tell_meter(world, numbers[0])
+    if call == BALANCE:
+        return tell_balance(world, numbers[0])
+    if call == STATEMENT:
+        return tell_statement(world, numbers[0], numbers[1])
+    if call == LINES:
+        return tell_lines(world)
+    return tell_counts(world)
+
+
+def answer_on_texts(world, call, numbers, text):
+    if call == TEXT:
+        return write_text(world, numbers[0], numbers[1], numbers[2], numbers[3])
+    return check_voucher(text)
 
 
 def answer(world, call, numbers, text):
@@ -90,7 +144,13 @@ def answer(world, call, numbers, text):
         return answer_on_accounts(world, call, numbers, text)
     if call <= BOOT:
         return answer_on_meters(world, call, numbers)
-    return answer_on_lines(world, call, numbers)
+    if call <= GARBLE:
+        return answer_on_lines(world, call, numbers)
+    if call <= JUDGE:
+        return answer_on_imprints(world, call, numbers, text)
+    if call <= COUNTS:
+        return answer_with_report(world, call, numbers)
+    return answer_on_texts(world, call, numbers, text)
 
 
 def answers(calls):

@@ -4,6 +4,7 @@ PAID_IN = 1
 VOUCHER_USED = 2
 REFILL_GRANTED = 3
 HANDED_IN = 4
+SPOILED = 5
 
 
 class Entry:
@@ -22,11 +23,13 @@ class Journal:
     def enter(self, day, account, kind, amount, number):
         self.entries.append(Entry(day, account, kind, amount, number))
 
+    def entries_of(self, account):
+        return [entry for entry in self.entries if entry.account == account]
+
     def balance(self, account):
         total = 0
-        for entry in self.entries:
-            if entry.account == account:
-                total += -entry.amount if entry.kind == REFILL_GRANTED else entry.amount
+        for entry in self.entries_of(account):
+            total += -entry.amount if entry.kind == REFILL_GRANTED else entry.amount
         return total
 
     def granted(self, meter):

@@ -1,6 +1,6 @@
 """The two lines of messages, and what happens when one arrives."""
 
-from postmeters.codes import ASK, GRANT, is_sealed, sealed
+from postmeters.codes import ASK, GRANT, MODULUS, is_sealed, sealed
 from postmeters.journal import REFILL_GRANTED
 from postmeters.memory import FALLING, PIECE, REFILLS, RISING, WHOLE_WRITE
 from postmeters.replies import METER_OFF, NOT_THERE, OUT_OF_RANGE, TOO_MUCH, with_rows
@@ -107,12 +107,43 @@ def deliver_to_meter(world, place, k):
     return with_rows(0, [message])
 
 
-def lose(world, line, place):
+def messages_on(world, line):
+    return world.asks if line == TO_HOUSE else world.grants
+
+
+def place_refusal(world, line, place):
+    """The refusal that a line and a place on it call for, 0 if none."""
     if not TO_HOUSE <= line <= TO_METERS:
-        return [OUT_OF_RANGE]
-    messages = world.asks if line == TO_HOUSE else world.grants
-    refusal = message_refusal(messages, place)
+        return OUT_OF_RANGE
+    return message_refusal(messages_on(world, line), place)
+
+
+def lose(world, line, place):
+    refusal = place_refusal(world, line, place)
     if refusal < 0:
         return [refusal]
-    messages.pop(place - 1)
+    messages_on(world, line).pop(place - 1)
+    return [0]
+
+
+def double(world, line, place):
+    refusal = place_refusal(world, line, place)
+    if refusal < 0:
+        return [refusal]
+    messages = messages_on(world, line)
+    if len(messages) == MOST_MESSAGES:
+        return [TOO_MUCH]
+    # A list of its own, so that one of the two can be garbled without the other.
+    messages.append(list(messages[place - 1]))
+    return [0]
+
+
+def garble(world, line, place, n):
+    if not 1 <= n < MODULUS:
+        return [OUT_OF_RANGE]
+    refusal = place_refusal(world, line, place)
+    if refusal < 0:
+        return [refusal]
+    message = messages_on(world, line)[place - 1]
+    message[AMOUNT] = (message[AMOUNT] + n) % MODULUS
     return [0]

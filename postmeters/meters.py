@@ -1,12 +1,11 @@
 """The calls on meters themselves."""
 
-from postmeters.codes import IMPRINT, sealed
+from postmeters.imprints import right_text
 from postmeters.journal import HANDED_IN
 from postmeters.memory import FALLING, PIECE, REFILLS, RISING
 from postmeters.replies import (
     ALREADY_SO, AS_TOLD, METER_OFF, NOT_ENOUGH, OUT_OF_RANGE, TOO_MUCH, with_rows,
 )
-from postmeters.texts import imprint_text
 from postmeters.world import MOST_METERS, Meter
 
 MOST_KEY = 1000000
@@ -66,12 +65,6 @@ def write_imprint(meter, value, k):
     meter.memory.write(bank[RISING] + value, bank[FALLING] - value, bank[PIECE] + 1, bank[REFILLS], k)
 
 
-def printed_text(world, meter, value):
-    """The text of the imprint that the meter has just written down."""
-    piece = meter.memory.counting_bank()[PIECE]
-    return imprint_text(sealed(IMPRINT, [meter.number, piece, value, world.day], meter.key))
-
-
 def print_imprint(world, number, value, k):
     if not 1 <= value <= MOST_IMPRINT_VALUE or not 0 <= k <= PRINTED:
         return [OUT_OF_RANGE]
@@ -87,7 +80,8 @@ def print_imprint(world, number, value, k):
     if k < PRINTED:
         meter.on = False
         return with_rows(0, [[]])
-    return with_rows(1, [printed_text(world, meter, value)])
+    piece = meter.memory.counting_bank()[PIECE]
+    return with_rows(1, [right_text(meter, piece, value, world.day)])
 
 
 def boot(world, number):

@@ -6,6 +6,7 @@ METER_OFF = -3
 NOT_THERE = -4
 ALREADY_SO = -5
 AS_TOLD = -6
+# Also where an imprint can't be given back.
 NOT_ENOUGH = -7
 TOO_MUCH = -8
 

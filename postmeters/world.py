@@ -1,4 +1,4 @@
-"""All that there is: the day, accounts, meters, vouchers, the journal, two lines."""
+"""All that there is: the day, accounts, meters, vouchers, the journal, two lines, imprints."""
 
 from postmeters.journal import Journal
 from postmeters.memory import Memory
@@ -38,13 +38,18 @@ class World:
         self.journal = Journal()
         self.asks = []
         self.grants = []
+        # Of each imprint a pair of its meter and its piece; True stands behind it.
+        self.seen = {}
+        self.given_back = {}
+
+    def meter_ever_there(self, number):
+        """The meter of that number, handed in or not, None if it was never there."""
+        return self.meters[number - 1] if 1 <= number <= len(self.meters) else None
 
     def find_meter(self, number):
         """The meter of that number, None if it isn't there or is handed in."""
-        if not 1 <= number <= len(self.meters):
-            return None
-        meter = self.meters[number - 1]
-        return None if meter.handed_in else meter
+        meter = self.meter_ever_there(number)
+        return None if meter is None or meter.handed_in else meter
 
     def account_refusal(self, account):
         """The refusal that the account's number calls for, 0 if none."""

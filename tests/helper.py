@@ -7,7 +7,9 @@ from postmeters.world import World
 
 NUMBER_OF = {
     "begin": 0, "day": 1, "account": 2, "deposit": 3, "voucher": 4, "redeem": 5, "meter": 6, "stop": 7,
-    "withdraw": 8, "imprint": 9, "boot": 10, "ask": 11, "to_house": 12, "to_meter": 13, "lose": 14,
+    "withdraw": 8, "imprint": 9, "boot": 10, "ask": 11, "to_house": 12, "to_meter": 13, "lose": 14, "double": 15,
+    "garble": 16, "scan": 17, "spoil": 18, "judge": 19, "registers": 20, "banks": 21, "told": 22, "balance": 23,
+    "statement": 24, "lines": 25, "counts": 26, "text": 27, "check": 28,
 }
 LEAST = -(2 ** 63)
 MOST = 2 ** 63 - 1
@@ -87,15 +89,23 @@ def grant_row(key, *numbers):
     return [4, *numbers, code(key, 2, *numbers)]
 
 
+def text_of(meter, piece, value, day, right):
+    return f"M{meter}.{piece} V{value // 100}.{value % 100:02} D{day} C{right:05}"
+
+
 def imprint_row(key, meter, piece, value, day):
-    right = code(key, 3, meter, piece, value, day)
-    text = f"M{meter}.{piece} V{value // 100}.{value % 100:02} D{day} C{right:05}"
+    text = text_of(meter, piece, value, day, code(key, 3, meter, piece, value, day))
     return [len(text), *text_bytes(text)]
 
 
 # An account with coins, and a meter of it with the key 7.
 KEY = 7
 METER = [("account",), ("deposit", 1, 100000000), ("meter", 1, KEY)]
+
+
+def made(piece, value=100, day=0, meter=1, key=KEY):
+    """The text of an imprint with the code that this key gives it."""
+    return text_of(meter, piece, value, day, code(key, 3, meter, piece, value, day))
 
 
 def refill(amount, meter=1):

@@ -1,6 +1,8 @@
-"""begin, day, account, deposit, voucher, redeem."""
+"""begin, day, account, deposit, voucher, redeem, check."""
 
-from tests.helper import LEAST, METER, MOST, CallCase, entries_behind, last, picture, refill, run, text_bytes, world_behind
+from tests.helper import (
+    LEAST, METER, MOST, CallCase, entries_behind, last, made, picture, refill, run, text_bytes, world_behind,
+)
 
 FULL = [("account",)] + [("deposit", 1, 100000000)] * 10
 
@@ -9,10 +11,16 @@ class Begin(CallCase):
     def test_all_is_new(self):
         calls = METER + refill(100) + [
             ("imprint", 1, 30, 7), ("voucher", 5, 10), ("redeem", 1, "V0000000059"), ("voucher", 6, 10), ("day", 9),
-            ("ask", 1, 3), ("to_house", 1), ("ask", 1, 4),
+            ("ask", 1, 3), ("to_house", 1), ("ask", 1, 4), ("scan", made(1)), ("spoil", 1, made(2)),
         ]
+        self.assertEqual(last(calls + [("counts",)]), [9, 8, 1, 1, 2, 5, 1, 1, 1, 1])
         self.assertEqual(last(calls + [("begin",)]), [0])
         self.assertEqual(picture(world_behind(calls + [("begin",)])), picture(world_behind([])))
+        self.assertEqual(last(calls + [("begin",), ("counts",)]), [0, 8, 0, 0, 0, 0, 0, 0, 0, 0])
+
+    def test_imprints_are_new(self):
+        calls = METER + [("scan", made(1)), ("spoil", 1, made(2)), ("begin",)] + METER
+        self.assertEqual(run(calls + [("scan", made(1)), ("scan", made(2))])[-2:], [[1, 1, 100], [1, 1, 100]])
 
     def test_behind_it_calls_answer_as_at_first(self):
         later = [
@@ -175,3 +183,48 @@ class Redeem(CallCase):
         self.refused(used, ("redeem", 1, "V0000000059"), -5)
         self.refused(used, ("redeem", LEAST, "V0000000059"), -1)
         self.refused(used, ("redeem", MOST, "V0000000059"), -1)
+
+
+class Check(CallCase):
+    def test_read(self):
+        texts = {"V0000000000": 0, "V0000000018": 1, "V1234567897": 123456789, "V9999999999": 999999999}
+        for text, number in texts.items():
+            self.assertEqual(last([("check", text)]), [1, 1, number])
+
+    def test_as_voucher_answers_it(self):
+        for number in (0, 5, 6, 98, 307, 40210, 987654321, 999999999):
+            told = last([("voucher", number, 5)])
+            self.assertEqual(last([("check", told[2:])]), [1, 1, number])
+
+    def test_whether_there_is_such_a_voucher_or_not(self):
+        calls = [("account",), ("voucher", 5, 70), ("redeem", 1, "V0000000059")]
+        self.assertEqual(last(calls + [("check", "V0000000059")]), [1, 1, 5])
+        self.assertEqual(picture(world_behind(calls + [("check", "V0000000059")])), picture(world_behind(calls)))
+
+    def test_another_length(self):
+        for text in ("", "V", "V0", "V000000000", "V00000000000", "0000000000", "VV0000000000", " V0000000000", "V" + "0" * 199):
+            self.assertEqual(last([("check", text)]), [0], text)
+
+    def test_another_byte_first(self):
+        good = text_bytes("V0000000059")
+        for byte in range(256):
+            self.assertEqual(last([("check", [byte] + good[1:])]), [1, 1, 5] if byte == 86 else [0], byte)
+
+    def test_other_bytes_than_digits(self):
+        good = text_bytes("V0000000059")
+        for place in range(1, 11):
+            for byte in (0, 32, 46, 47, 58, 86, 255):
+                self.assertEqual(last([("check", good[:place] + [byte] + good[place + 1:])]), [0], (place, byte))
+
+    def test_another_check_digit(self):
+        for digit in range(10):
+            self.assertEqual(last([("check", f"V123456789{digit}")]), [1, 1, 123456789] if digit == 7 else [0])
+
+    def test_a_digit_changed_or_two_changed_about(self):
+        self.assertEqual([last([("check", text)]) for text in ("V1234567807", "V1234657897", "V2134567897")], [[0]] * 3)
+
+    def test_length(self):
+        before = [("account",), ("voucher", 5, 70)]
+        self.assertEqual(last(before + [("check", [48] * 200)]), [0])
+        for length in (201, 1000):
+            self.refused(before, ("check", [48] * length), -1)

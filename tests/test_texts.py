@@ -3,7 +3,7 @@
 import unittest
 
 from postmeters.codes import code_of, is_sealed, sealed
-from postmeters.texts import check_digit, imprint_text, money, padded, read_voucher, voucher_text
+from postmeters.texts import check_digit, imprint_text, money, padded, read_imprint, read_voucher, voucher_text
 from tests.helper import METER, code, imprint_row, last, refill, run, text_bytes
 
 
@@ -64,6 +64,105 @@ class Imprints(unittest.TestCase):
         calls += [("imprint", 10, 205, 7)] * 12
         told = run(calls)[-12:]
         self.assertEqual(told, [[1] + imprint_row(8, 10, piece, 205, 100000) for piece in range(1, 13)])
+
+
+class ImprintsRead(unittest.TestCase):
+    texts = {
+        "M1.1 V1.00 D0 C63301": [1, 1, 100, 0, 63301],
+        "M0.0 V0.00 D0 C00000": [0, 0, 0, 0, 0],
+        "M10.345 V10000.05 D100000 C00007": [10, 345, 1000005, 100000, 7],
+        "M999999999.999999999 V999999999.99 D999999999 C99999": [999999999, 999999999, 99999999999, 999999999, 99999],
+        "M100000000.100000000 V100000000.01 D100000000 C99990": [100000000, 100000000, 10000000001, 100000000, 99990],
+        "M2.9 V0.90 D10 C01000": [2, 9, 90, 10, 1000],
+    }
+
+    def not_read(self, *texts):
+        for text in texts:
+            with self.subTest(text=text):
+                row = text_bytes(text) if isinstance(text, str) else text
+                self.assertIsNone(read_imprint(row))
+                self.assertEqual(run(METER + [("judge", row), ("scan", row)])[-2:], [[2, 0], [2, 0]])
+
+    def test_read(self):
+        for text, imprint in self.texts.items():
+            with self.subTest(text=text):
+                self.assertEqual(read_imprint(text_bytes(text)), imprint)
+                self.assertEqual(imprint_text(imprint), text_bytes(text))
+
+    def test_zero_in_front(self):
+        self.not_read("M01.1 V1.00 D0 C63301", "M1.01 V1.00 D0 C63301", "M1.1 V01.00 D0 C63301", "M1.1 V1.00 D00 C63301")
+        self.not_read("M00.1 V1.00 D0 C63301", "M1.00 V1.00 D0 C63301", "M1.1 V00.00 D0 C63301", "M1.1 V1.00 D01 C63301")
+        self.not_read("M000000001.1 V1.00 D0 C63301", "M1.1 V000000001.00 D0 C63301")
+
+    def test_ten_digits(self):
+        ten = ("1000000000", "9999999999", "0000000001", "1" * 20, "1" * 100)
+        for number in ten:
+            self.not_read(f"M{number}.1 V1.00 D0 C63301", f"M1.{number} V1.00 D0 C63301")
+            self.not_read(f"M1.1 V{number}.00 D0 C63301", f"M1.1 V1.00 D{number} C63301")
+
+    def test_empty_number(self):
+        self.not_read("M.1 V1.00 D0 C63301", "M1. V1.00 D0 C63301", "M1.1 V.00 D0 C63301", "M1.1 V1.00 D C63301")
+        self.not_read("M. V. D C", "M1.1 V1. D0 C63301", "M1.1 V1.00 D0 C", "M V1.00 D0 C63301", "M1.1 V D0 C63301")
+
+    def test_hundredths(self):
+        self.not_read("M1.1 V1.0 D0 C63301", "M1.1 V1.000 D0 C63301", "M1.1 V1 D0 C63301", "M1.1 V100 D0 C63301")
+
+    def test_digits_of_the_code(self):
+        self.not_read("M1.1 V1.00 D0 C6330", "M1.1 V1.00 D0 C063301", "M1.1 V1.00 D0 C633010", "M1.1 V1.00 D0 C0")
+
+    def test_points(self):
+        self.not_read("M11 V1.00 D0 C63301", "M1..1 V1.00 D0 C63301", "M1.1.1 V1.00 D0 C63301", "M1.1. V1.00 D0 C63301")
+        self.not_read("M.1.1 V1.00 D0 C63301", "M1.1 V1..00 D0 C63301", "M1.1 V1.00. D0 C63301", "M1.1 V1.0.0 D0 C63301")
+        self.not_read("M1.1 V.1.00 D0 C63301", "M1.1 V1.00 D0.0 C63301", "M1.1 V1.00 D0. C63301", "M1.1 V1.00 D0 C63301.")
+        self.not_read("M1.1 V1.00 D0 C633.01", "M1.1.V1.00 D0 C63301", "M1,1 V1.00 D0 C63301", "M1.1 V1,00 D0 C63301")
+
+    def test_blanks(self):
+        self.not_read("M1.1V1.00 D0 C63301", "M1.1 V1.00D0 C63301", "M1.1 V1.00 D0C63301", "M1.1V1.00D0C63301")
+        self.not_read("M1.1  V1.00 D0 C63301", "M1.1 V1.00  D0 C63301", "M1.1 V1.00 D0  C63301")
+        self.not_read(" M1.1 V1.00 D0 C63301", "M1.1 V1.00 D0 C63301 ", "M 1.1 V1.00 D0 C63301", "M1. 1 V1.00 D0 C63301")
+        self.not_read("M1.1 V 1.00 D0 C63301", "M1.1 V1.00 D 0 C63301", "M1.1 V1.00 D0 C 63301", "M1.1 V1.00 D0 C63 301")
+        self.not_read("M1.1\tV1.00 D0 C63301", "M1.1 V1.00 D0 C63301\n", "M1.1\nV1.00 D0 C63301")
+
+    def test_another_letter(self):
+        self.not_read("m1.1 V1.00 D0 C63301", "M1.1 v1.00 D0 C63301", "M1.1 V1.00 d0 C63301", "M1.1 V1.00 D0 c63301")
+        self.not_read("1.1 V1.00 D0 C63301", "M1.1 1.00 D0 C63301", "M1.1 V1.00 0 C63301", "M1.1 V1.00 D0 63301")
+        self.not_read("MM1.1 V1.00 D0 C63301", "M1.1 VV1.00 D0 C63301", "M1.1 V1.00 DD0 C63301", "M1.1 V1.00 D0 CC63301")
+
+    def test_words_missing_too_many_or_in_another_order(self):
+        self.not_read("", "M", " ", "   ", "M1.1", "M1.1 V1.00 D0", "V1.00 D0 C63301", "M1.1 D0 C63301", "M1.1 V1.00 C63301")
+        self.not_read("M1.1 D0 V1.00 C63301", "V1.00 M1.1 D0 C63301", "M1.1 V1.00 C63301 D0", "M1.1 V1.00 D0 D0 C63301")
+        self.not_read("M1.1 V1.00 D0 C63301 C63301", "M1.1 V1.00 D0 C63301 M1.1 V1.00 D0 C63301")
+
+    def test_signs_before_a_number(self):
+        self.not_read("M-1.1 V1.00 D0 C63301", "M1.+1 V1.00 D0 C63301", "M1.1 V-1.00 D0 C63301", "M1.1 V1.00 D-0 C63301")
+        self.not_read("M1.1 V1.00 D0 C-6330", "M1.1 V1.-1 D0 C63301", "M1_0.1 V1.00 D0 C63301")
+
+    def test_every_other_byte_at_every_place(self):
+        good = text_bytes("M1.1 V1.00 D0 C63301")
+        read = 0
+        for place, right in enumerate(good):
+            for byte in range(256):
+                row = good[:place] + [byte] + good[place + 1:]
+                told = read_imprint(row)
+                # Where a digit stood, a digit may stand: none of the others is the first of two.
+                may_stand = byte == right or (48 <= right <= 57 and 48 <= byte <= 57)
+                self.assertEqual(told is not None, may_stand, (place, byte))
+                if told is not None:
+                    self.assertEqual(imprint_text(told), row)
+                    read += 1
+        self.assertEqual(read, 11 * 10 + 9)
+
+    def test_every_byte_left_out_or_put_in(self):
+        good = text_bytes("M12.34 V56.78 D90 C12345")
+        # Without its second digit, and with one more, a number of two is still one.
+        for place in range(len(good)):
+            told = read_imprint(good[:place] + good[place + 1:])
+            self.assertEqual(told is not None, place in (1, 2, 4, 5, 8, 9, 15, 16), place)
+        for place in range(len(good) + 1):
+            for byte in (32, 46, 47, 58, 67, 68, 77, 86):
+                self.assertIsNone(read_imprint(good[:place] + [byte] + good[place:]), (place, byte))
+            told = read_imprint(good[:place] + [55] + good[place:])
+            self.assertEqual(told is not None, place in (1, 2, 3, 4, 5, 6, 8, 9, 10, 15, 16, 17), place)
 
 
 class Vouchers(unittest.TestCase):
